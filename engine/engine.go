@@ -1,4 +1,4 @@
-// Package engine answers statements over a store (P5 to P8).
+// Package engine answers statements over a store (P5 to P8, P10).
 package engine
 
 import (
@@ -18,51 +18,54 @@ type Outcome struct {
 	Makes   bool // a table is made, of the name and the columns that follow
 	Name    string
 	Columns []data.Column
-	Table   int // the place in the store's list of the table whose rows turn
-	Puts    []store.Row
-	Cuts    []int64
+	Table   int         // the number of the table whose rows turn
+	Puts    []store.Row // in the order in which they are put
+	Cuts    []int64     // the keys of rows, in the order in which these are deleted
 }
 
 // Decide finds the outcome of a statement and turns nothing.
-func Decide(s *store.Store, sql string) Outcome {
+func Decide(s store.Store, sql string) Outcome {
 	statement, e := syntax.Parse(sql)
 	if e != api.OK {
 		return refused(e)
 	}
+	tables := s.Tables()
 	if statement.Act == syntax.Create {
-		return create(s, statement)
+		return create(tables, s.Size(), statement)
 	}
-	at := s.Find(statement.Table)
-	if at < 0 || at >= len(s.Tables) {
+	table, there := store.Find(tables, statement.Table)
+	if !there {
 		return refused(api.ErrName)
 	}
-	table := s.Tables[at]
 	e = check(table.Columns, statement)
 	if e != api.OK {
 		return refused(e)
 	}
-	switch statement.Act {
-	case syntax.Insert:
-		return insert(table, at, s.Size(), statement.Values)
-	case syntax.Update:
-		return update(table, at, statement)
-	case syntax.Delete:
-		return remove(table, at, statement.Where)
+	if statement.Act == syntax.Insert {
+		return insert(s, table.Number, statement.Values)
 	}
-	return Outcome{Reply: show(table, statement)}
+	rows := meeting(table.Columns, s.Rows(table), statement.Where)
+	switch statement.Act {
+	case syntax.Update:
+		return update(table, rows, statement.Sets)
+	case syntax.Delete:
+		return remove(table.Number, rows)
+	}
+	return Outcome{Reply: show(table.Columns, rows, statement)}
 }
 
-// Apply turns the store as an outcome says.
-func Apply(s *store.Store, o Outcome) {
+// Apply is the store as an outcome leaves it.
+func Apply(s store.Store, o Outcome) store.Store {
 	if o.Makes {
-		s.Make(o.Name, o.Columns)
+		s = s.Make(o.Name, o.Columns)
 	}
 	for i := 0; i < len(o.Puts); i++ {
-		s.Put(o.Table, o.Puts[i])
+		s = s.Put(o.Table, o.Puts[i])
 	}
 	for i := 0; i < len(o.Cuts); i++ {
-		s.Cut(o.Table, o.Cuts[i])
+		s = s.Cut(o.Table, o.Cuts[i])
 	}
+	return s
 }
 
 func refused(e api.Errno) Outcome {
@@ -73,8 +76,10 @@ func counted(rows int) string {
 	return strconv.Itoa(rows) + ";"
 }
 
-func create(s *store.Store, statement syntax.Statement) Outcome {
-	if s.Find(statement.Table) >= 0 {
+// create is told how many rows and tables there are, all together.
+func create(tables []store.Table, size int, statement syntax.Statement) Outcome {
+	_, there := store.Find(tables, statement.Table)
+	if there {
 		return refused(api.ErrTwice)
 	}
 	if len(statement.Columns) > api.MaxCols {
@@ -83,7 +88,7 @@ func create(s *store.Store, statement syntax.Statement) Outcome {
 	if twoOfOneName(statement.Columns) {
 		return refused(api.ErrTwice)
 	}
-	if len(s.Tables) >= api.MaxTables || s.Size() >= api.MaxRows {
+	if len(tables) >= api.MaxTables || size >= api.MaxRows {
 		return refused(api.ErrFull)
 	}
 	return Outcome{Reply: counted(0), Makes: true, Name: statement.Table, Columns: statement.Columns}
@@ -98,29 +103,28 @@ func twoOfOneName(columns []data.Column) bool {
 	return false
 }
 
-// insert is told the size of the whole store, which bounds every table.
-func insert(table store.Table, at int, size int, values []data.Value) Outcome {
+func insert(s store.Store, table int, values []data.Value) Outcome {
 	row := store.Row{Cells: values}
-	if table.Has(row.Key()) {
+	if s.Has(table, row.Key()) {
 		return refused(api.ErrKey)
 	}
-	if size >= api.MaxRows {
+	if s.Size() >= api.MaxRows {
 		return refused(api.ErrFull)
 	}
-	return Outcome{Reply: counted(1), Table: at, Puts: []store.Row{row}}
+	return Outcome{Reply: counted(1), Table: table, Puts: []store.Row{row}}
 }
 
-func update(table store.Table, at int, statement syntax.Statement) Outcome {
-	rows := meeting(table, statement.Where)
+// update is told the rows that meet the condition.
+func update(table store.Table, rows []store.Row, sets []syntax.Set) Outcome {
 	var puts []store.Row
 	for i := 0; i < len(rows); i++ {
-		row, ok := assigned(table.Columns, rows[i], statement.Sets)
+		row, ok := assigned(table.Columns, rows[i], sets)
 		if !ok {
 			return refused(api.ErrRange)
 		}
 		puts = append(puts, row)
 	}
-	return Outcome{Reply: counted(len(puts)), Table: at, Puts: puts}
+	return Outcome{Reply: counted(len(puts)), Table: table.Number, Puts: puts}
 }
 
 // assigned is the row as an update leaves it; false, if a number would be out of
@@ -157,11 +161,11 @@ func result(columns []data.Column, row store.Row, set syntax.Set) (data.Value, b
 	return data.OfNumber(number), true
 }
 
-func remove(table store.Table, at int, where []syntax.Step) Outcome {
-	rows := meeting(table, where)
+// remove is told the rows that meet the condition.
+func remove(table int, rows []store.Row) Outcome {
 	var cuts []int64
 	for i := 0; i < len(rows); i++ {
 		cuts = append(cuts, rows[i].Key())
 	}
-	return Outcome{Reply: counted(len(cuts)), Table: at, Cuts: cuts}
+	return Outcome{Reply: counted(len(cuts)), Table: table, Cuts: cuts}
 }

@@ -6,15 +6,15 @@ import (
 	"sqlproof/syntax"
 )
 
-// meeting is the rows that meet a condition, in the order of their keys.
-func meeting(table store.Table, where []syntax.Step) []store.Row {
-	var rows []store.Row
-	for i := 0; i < len(table.Rows); i++ {
-		if meets(table.Columns, table.Rows[i], where) {
-			rows = append(rows, table.Rows[i])
+// meeting is those of the rows that meet a condition, in their order.
+func meeting(columns []data.Column, rows []store.Row, where []syntax.Step) []store.Row {
+	var found []store.Row
+	for i := 0; i < len(rows); i++ {
+		if meets(columns, rows[i], where) {
+			found = append(found, rows[i])
 		}
 	}
-	return rows
+	return found
 }
 
 // pile is what the steps of a condition have told so far.

@@ -8,18 +8,17 @@ import (
 	"sqlproof/syntax"
 )
 
-// show is the reply to a select.
-func show(table store.Table, statement syntax.Statement) string {
-	rows := meeting(table, statement.Where)
+// show is the reply to a select; it is told the rows that meet the condition.
+func show(columns []data.Column, rows []store.Row, statement syntax.Statement) string {
 	switch statement.Show {
 	case syntax.Count:
 		return counted(len(rows))
 	case syntax.Sum:
-		return summed(table.Columns, rows, statement.Items)
+		return summed(columns, rows, statement.Items)
 	case syntax.All:
-		return listed(table.Columns, rows, namesOf(table.Columns))
+		return listed(columns, rows, namesOf(columns))
 	}
-	return listed(table.Columns, rows, statement.Items)
+	return listed(columns, rows, statement.Items)
 }
 
 // summed needs no bound: sixty numbers of 32 bits fit an int64 with ease.

@@ -12,7 +12,10 @@ import (
 	"testing"
 )
 
-const longest = 40 // lines of a function
+const (
+	longest = 40  // lines of a function
+	most    = 200 // numbers of a table
+)
 
 // sources are the program's Go files, by their paths from the module's folder.
 func sources(t *testing.T) []string {
@@ -52,7 +55,7 @@ func TestLanguage(t *testing.T) {
 // The check itself finds what it is there to find.
 func TestFaults(t *testing.T) {
 	for _, code := range []string{
-		`import "fmt"`, `import "sync"`, `var x = 1`, `var x []int`, `var x = []int{1}`, "//go:noinline\nfunc f() {}",
+		`import "fmt"`, `import "sync"`, `var x = 1`, `var x []int`, `var x = []int{1}`, `var x = [1]int{y}`, "var x = [201]int{" + strings.Repeat("1,", most+1) + "}", "//go:noinline\nfunc f() {}",
 		`func f() { go f() }`, `func f() { defer f() }`, `func f() { panic("") }`, `func f() { recover() }`, `func f(l []int) int { return cap(l) }`,
 		`func f(m map[int]int) {}`, `func f(c chan int) {}`, `func f(x any) {}`, `func f(x interface{}) {}`, `func f() error { return nil }`, `type T interface{ F() }`,
 		`func f() { _ = func() {} }`, `func f(g func()) {}`, `func f[T int](x T) {}`, `type T[P int] struct{}`, `func f(x float64) {}`, `func f() int { return int(1.5) }`,
@@ -126,8 +129,13 @@ func isTable(g *ast.GenDecl) bool {
 			return false
 		}
 		a, ok := c.Type.(*ast.ArrayType)
-		if !ok || a.Len == nil {
+		if !ok || a.Len == nil || len(c.Elts) > most {
 			return false
+		}
+		for _, x := range c.Elts {
+			if _, plain := x.(*ast.BasicLit); !plain {
+				return false
+			}
 		}
 	}
 	return true

@@ -7,8 +7,9 @@ import (
 	"sqlproof/store"
 )
 
-// Server is a store.
+// Server is a store, and the width of its digests.
 type Server struct {
+	wide int
 	base store.Store
 }
 
@@ -17,7 +18,7 @@ func New(wide int) (*Server, api.Errno) {
 	if wide < 1 || wide > api.MaxWide {
 		return nil, api.ErrWide
 	}
-	return &Server{}, api.OK
+	return &Server{wide: wide}, api.OK
 }
 
 // Run carries a statement out (P3 to P8; its root P11; its proof P13).
@@ -25,9 +26,9 @@ func (s *Server) Run(sql string) api.Answer {
 	if s == nil {
 		return api.Answer{}
 	}
-	outcome := engine.Decide(&s.base, sql)
-	engine.Apply(&s.base, outcome)
-	return api.Answer{Reply: outcome.Reply}
+	answer, base := answered(s.wide, s.base, sql)
+	s.base = base
+	return answer
 }
 
 // Peek answers as Run would, and turns nothing (P3).
@@ -35,12 +36,24 @@ func (s *Server) Peek(sql string) api.Answer {
 	if s == nil {
 		return api.Answer{}
 	}
-	outcome := engine.Decide(&s.base, sql)
-	return api.Answer{Reply: outcome.Reply}
+	answer, _ := answered(s.wide, s.base, sql)
+	return answer
+}
+
+// answered is the answer to a statement, and the store as it leaves it.
+func answered(wide int, base store.Store, sql string) (api.Answer, store.Store) {
+	outcome := engine.Decide(base, sql)
+	next := engine.Apply(base, outcome)
+	return api.Answer{Reply: outcome.Reply, Root: next.Root(wide)}, next
 }
 
 // Root tells the root's digest (P11).
-func (s *Server) Root() string { return "" }
+func (s *Server) Root() string {
+	if s == nil {
+		return ""
+	}
+	return s.base.Root(s.wide)
+}
 
 // Clash compares the tree with a proof (P16).
 func (s *Server) Clash(proof string) (string, string, bool) { return "", "", false }

@@ -39,14 +39,15 @@ func play(t *testing.T, promise string, s *sqlproof.Server, list []pair) {
 	t.Helper()
 	for _, p := range list {
 		before := dump(s)
-		if a := s.Peek(p.sql); a.Reply != p.reply {
-			t.Errorf("%s: Peek(%q).Reply = %q, want %q", promise, p.sql, a.Reply, p.reply)
+		peeked := s.Peek(p.sql)
+		if peeked.Reply != p.reply {
+			t.Errorf("%s: Peek(%q).Reply = %q, want %q", promise, p.sql, peeked.Reply, p.reply)
 		}
 		if after := dump(s); after != before {
 			t.Errorf("P3: Peek(%q) turned %q into %q", p.sql, before, after)
 		}
-		if a := s.Run(p.sql); a.Reply != p.reply {
-			t.Errorf("%s: Run(%q).Reply = %q, want %q", promise, p.sql, a.Reply, p.reply)
+		if a := s.Run(p.sql); a.Reply != p.reply || a != peeked || a.Root != s.Root() {
+			t.Errorf("%s: Run(%q) = %q, want %q, Peek %q", promise, p.sql, a, p.reply, peeked)
 		}
 		asks := strings.HasPrefix(p.reply, "!") || strings.HasPrefix(p.sql, "select")
 		if after := dump(s); asks && after != before {
@@ -55,9 +56,9 @@ func play(t *testing.T, promise string, s *sqlproof.Server, list []pair) {
 	}
 }
 
-// dump tells all rows of the tables that these tests use.
+// dump tells the root, and all rows of the tables that these tests use.
 func dump(s *sqlproof.Server) string {
-	out := ""
+	out := fmt.Sprintf("%x\n", s.Root())
 	for _, name := range strings.Fields("t u v w x a b c d e f g tt k1 abcdefgh") {
 		out += name + ":" + s.Peek("select * from "+name).Reply + "\n"
 	}
@@ -132,9 +133,12 @@ func TestP1NoServer(t *testing.T) {
 	if a, b := none.Run("select * from t"), none.Peek("select * from t"); a != (api.Answer{}) || b != (api.Answer{}) {
 		t.Errorf("P1: no server answers %v, %v", a, b)
 	}
-	none.Root()
+	if none.Root() != "" {
+		t.Error("P1: no server has a root")
+	}
 	none.Clash("")
 	var empty sqlproof.Server
+	empty.Root()
 	if a := empty.Run("select * from t"); a.Reply != "!4" {
 		t.Errorf("P1: an empty server answers %v", a)
 	}

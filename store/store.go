@@ -1,24 +1,33 @@
-// Package store keeps tables and their rows.
+// Package store keeps tables and their rows in one tree (P8 to P10).
 package store
 
-import "sqlproof/data"
+import (
+	"sqlproof/api"
+	"sqlproof/data"
+	"sqlproof/record"
+	"sqlproof/tree"
+)
 
 // Row is a value for each column; the first is its key.
 type Row struct {
 	Cells []data.Value
 }
 
-// Table is a table; its rows lie in the order of their keys.
+// Table is a table without its rows.
 type Table struct {
+	Number  int
 	Name    string
 	Columns []data.Column
-	Rows    []Row
 }
 
-// Store is all tables, as they were made.
+// Store is all tables and their rows. No call turns it: what makes, puts or cuts
+// answers another one. The empty Store has no tables.
 type Store struct {
-	Tables []Table
+	root tree.Node
 }
+
+// tables is the number of the table whose rows describe the others.
+const tables = 0
 
 // Key is the number by which a row is found.
 func (r Row) Key() int64 {
@@ -35,75 +44,84 @@ func (r Row) Copy() Row {
 	return Row{Cells: cells}
 }
 
-// Has tells whether there is a row of that key.
-func (t Table) Has(key int64) bool {
-	for i := 0; i < len(t.Rows); i++ {
-		if t.Rows[i].Key() == key {
-			return true
+// Find is the first table of that name in a list; false, if there is none.
+func Find(list []Table, name string) (Table, bool) {
+	for i := 0; i < len(list); i++ {
+		if list[i].Name == name {
+			return list[i], true
 		}
 	}
-	return false
+	return Table{}, false
 }
 
-// Find tells the place of the first table of that name in the list, or -1.
-func (s *Store) Find(name string) int {
-	for i := 0; i < len(s.Tables); i++ {
-		if s.Tables[i].Name == name {
-			return i
+// entries are all rows of a table, as they lie in the tree.
+func (s Store) entries(table int) []tree.Entry {
+	return s.root.Between(record.Place(table, api.Low), record.Place(table, api.High))
+}
+
+// Tables is all tables, in the order of their numbers. Only tables that were
+// made here are in the tree, so every description can be read.
+func (s Store) Tables() []Table {
+	entries := s.entries(tables)
+	var list []Table
+	for i := 0; i < len(entries); i++ {
+		name, columns, ok := record.ToTable(entries[i].Row)
+		if ok {
+			key := record.Key(entries[i].Place)
+			list = append(list, Table{Number: int(key), Name: name, Columns: columns})
 		}
 	}
-	return -1
+	return list
+}
+
+// Rows is all rows of a table, in the order of their keys.
+func (s Store) Rows(table Table) []Row {
+	entries := s.entries(table.Number)
+	var rows []Row
+	for i := 0; i < len(entries); i++ {
+		cells, ok := record.ToCells(table.Columns, record.Key(entries[i].Place), entries[i].Row)
+		if ok {
+			rows = append(rows, Row{Cells: cells})
+		}
+	}
+	return rows
+}
+
+// Has tells whether a table, by its number, has a row of that key.
+func (s Store) Has(table int, key int64) bool {
+	return s.root.Has(record.Place(table, key))
 }
 
 // Size is how many rows and tables there are, all together.
-func (s *Store) Size() int {
-	size := len(s.Tables)
-	for i := 0; i < len(s.Tables); i++ {
-		size += len(s.Tables[i].Rows)
-	}
-	return size
+func (s Store) Size() int {
+	return s.root.Rows
 }
 
-// Make lays down a new table without rows.
-func (s *Store) Make(name string, columns []data.Column) {
-	own := make([]data.Column, len(columns))
-	copy(own, columns)
-	s.Tables = append(s.Tables, Table{Name: name, Columns: own})
+// Root is the digest of the tree's root, of so many bytes.
+func (s Store) Root(wide int) string {
+	return s.root.Digest(wide)
 }
 
-// Put lays a row into its place in the order, instead of one of the same key.
-func (s *Store) Put(table int, row Row) {
-	if table < 0 || table >= len(s.Tables) {
-		return
-	}
-	key := row.Key()
-	old := s.Tables[table].Rows
-	var rows []Row
-	at := 0
-	for at < len(old) && old[at].Key() < key {
-		rows = append(rows, old[at])
-		at++
-	}
-	rows = append(rows, row.Copy())
-	for ; at < len(old); at++ {
-		if old[at].Key() != key {
-			rows = append(rows, old[at])
+// Make is the store with a new table, without rows.
+func (s Store) Make(name string, columns []data.Column) Store {
+	list := s.Tables()
+	last := 0
+	for i := 0; i < len(list); i++ {
+		if list[i].Number > last {
+			last = list[i].Number
 		}
 	}
-	s.Tables[table].Rows = rows
+	place := record.Place(tables, int64(last)+1)
+	return Store{root: s.root.Put(place, record.OfTable(name, columns))}
 }
 
-// Cut takes the row of a key away.
-func (s *Store) Cut(table int, key int64) {
-	if table < 0 || table >= len(s.Tables) {
-		return
-	}
-	old := s.Tables[table].Rows
-	var rows []Row
-	for i := 0; i < len(old); i++ {
-		if old[i].Key() != key {
-			rows = append(rows, old[i])
-		}
-	}
-	s.Tables[table].Rows = rows
+// Put is the store with a row laid into a table, instead of one of the same key.
+func (s Store) Put(table int, row Row) Store {
+	place := record.Place(table, row.Key())
+	return Store{root: s.root.Put(place, record.OfCells(row.Cells))}
+}
+
+// Cut is the store without the row of a key of a table.
+func (s Store) Cut(table int, key int64) Store {
+	return Store{root: s.root.Delete(record.Place(table, key))}
 }

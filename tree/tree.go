@@ -1,0 +1,123 @@
+// Package tree is the one tree in which all rows lie (P10), and its bytes and
+// digests (P11). No call turns a node: what puts or deletes answers another root,
+// so that whoever holds the old one still has the old tree.
+package tree
+
+import "sqlproof/api"
+
+// Entry is a row's bytes and where the row lies.
+type Entry struct {
+	Place int64
+	Row   string
+}
+
+// Node is a leaf or an inner node, with all below it. The empty Node is the tree
+// as it is at first.
+type Node struct {
+	Inner    bool
+	Entries  []Entry // of a leaf
+	Children []Node  // of an inner node
+	Least    int64   // the least place in it; of a leaf without entries 0
+	Rows     int     // how many rows are in it
+}
+
+// three of five go to the left, where a node becomes two.
+const three = api.Full + 1 - api.Half
+
+func leaf(entries []Entry) Node {
+	own := make([]Entry, len(entries))
+	copy(own, entries)
+	n := Node{Entries: own, Rows: len(own)}
+	if len(own) > 0 {
+		n.Least = own[0].Place
+	}
+	return n
+}
+
+func inner(children []Node) Node {
+	own := make([]Node, len(children))
+	copy(own, children)
+	n := Node{Inner: true, Children: own}
+	for i := 0; i < len(own); i++ {
+		n.Rows += own[i].Rows
+	}
+	if len(own) > 0 {
+		n.Least = own[0].Least
+	}
+	return n
+}
+
+// leaves are the one leaf, or the two, that entries make.
+func leaves(entries []Entry) []Node {
+	if len(entries) <= api.Full {
+		return []Node{leaf(entries)}
+	}
+	return []Node{leaf(entries[:three]), leaf(entries[three:])}
+}
+
+// inners are the one inner node, or the two, that children make.
+func inners(children []Node) []Node {
+	if len(children) <= api.Full {
+		return []Node{inner(children)}
+	}
+	return []Node{inner(children[:three]), inner(children[three:])}
+}
+
+// size is how many entries, or children, a node has.
+func (n Node) size() int {
+	if n.Inner {
+		return len(n.Children)
+	}
+	return len(n.Entries)
+}
+
+// way is the number of the child through which the way to a place goes.
+func (n Node) way(place int64) int {
+	at := 0
+	for i := 1; i < len(n.Children); i++ {
+		if n.Children[i].Least <= place {
+			at = i
+		}
+	}
+	return at
+}
+
+// Has tells whether a row lies at a place.
+func (n Node) Has(place int64) bool {
+	if n.Inner {
+		at := n.way(place)
+		return at < len(n.Children) && n.Children[at].Has(place)
+	}
+	for i := 0; i < len(n.Entries); i++ {
+		if n.Entries[i].Place == place {
+			return true
+		}
+	}
+	return false
+}
+
+// Between is the entries from the place lo to the place hi, in their order.
+func (n Node) Between(lo int64, hi int64) []Entry {
+	var found []Entry
+	for i := 0; i < len(n.Entries); i++ {
+		if lo <= n.Entries[i].Place && n.Entries[i].Place <= hi {
+			found = append(found, n.Entries[i])
+		}
+	}
+	for i := 0; i < len(n.Children); i++ {
+		if n.mayHave(i, lo, hi) {
+			found = append(found, n.Children[i].Between(lo, hi)...)
+		}
+	}
+	return found
+}
+
+// mayHave tells whether a child may have rows from lo to hi, as far as the node
+// itself can tell.
+func (n Node) mayHave(child int, lo int64, hi int64) bool {
+	next := child + 1
+	if child < 0 || child >= len(n.Children) || n.Children[child].Least > hi {
+		return false
+	}
+	return next == len(n.Children) || n.Children[next].Least > lo
+}
