@@ -1,6 +1,8 @@
 // Package digest has SHA-256 (FIPS 180-4), cut to a width.
 package digest
 
+import "sqlproof/api"
+
 // rounds are the first 32 bits behind the point of the cube roots of the first 64 primes.
 var rounds = [64]uint32{
 	0x428a2f98, 0x71374491, 0xb5c0fbcf, 0xe9b5dba5, 0x3956c25b, 0x59f111f1, 0x923f82a4, 0xab1c5ed5,
@@ -14,6 +16,11 @@ var rounds = [64]uint32{
 }
 
 const block = 64 // bytes that are mixed in at once
+
+// IsWidth tells whether a digest may have so many bytes.
+func IsWidth(wide int) bool {
+	return wide >= 1 && wide <= api.MaxWide
+}
 
 // Of is the first so many bytes of a text's SHA-256.
 func Of(text string, wide int) string {

@@ -42,3 +42,11 @@ func TestWidths(t *testing.T) {
 		}
 	}
 }
+
+func TestIsWidth(t *testing.T) {
+	for wide, want := range map[int]bool{-1 << 63: false, -1: false, 0: false, 1: true, 2: true, 31: true, 32: true, 33: false, 1<<63 - 1: false} {
+		if got := IsWidth(wide); got != want {
+			t.Errorf("P3: IsWidth(%d) = %v", wide, got)
+		}
+	}
+}

@@ -1,4 +1,4 @@
-// Package engine answers statements over a store (P5 to P8, P10).
+// Package engine answers statements over a tree (P5 to P8, P10, P12).
 package engine
 
 import (
@@ -8,28 +8,35 @@ import (
 	"sqlproof/data"
 	"sqlproof/store"
 	"sqlproof/syntax"
+	"sqlproof/tree"
 )
 
-// Outcome is the reply to a statement and what the statement turns. That the two
-// come ahead of any turn lets Peek and Run give one answer, and lets a refused
-// update leave no row half done.
-type Outcome struct {
-	Reply   string
-	Makes   bool // a table is made, of the name and the columns that follow
-	Name    string
-	Columns []data.Column
-	Table   int         // the number of the table whose rows turn
-	Puts    []store.Row // in the order in which they are put
-	Cuts    []int64     // the keys of rows, in the order in which these are deleted
+// outcome is the reply to a statement and what the statement turns. That the two
+// come ahead of any turn lets a refused update leave no row half done.
+type outcome struct {
+	reply string
+	makes bool        // the table is made
+	table store.Table // the table that is made, or whose rows turn
+	puts  []store.Row // in the order in which they are put
+	cuts  []int64     // the keys of rows, in the order in which these are deleted
 }
 
-// Decide finds the outcome of a statement and turns nothing.
-func Decide(s store.Store, sql string) Outcome {
+// Run is the reply to a statement, and the tree as the statement leaves it. The
+// trail tells what was touched of the tree, and whether the rest can be trusted.
+func Run(root tree.Node, sql string, trail *tree.Trail) (string, tree.Node) {
+	s := store.Store{Tree: root}
+	o := decide(s, sql, trail)
+	next := apply(s, o, trail)
+	return o.reply, next.Tree
+}
+
+// decide finds the outcome of a statement and turns nothing.
+func decide(s store.Store, sql string, trail *tree.Trail) outcome {
 	statement, e := syntax.Parse(sql)
 	if e != api.OK {
 		return refused(e)
 	}
-	tables := s.Tables()
+	tables := s.Tables(trail)
 	if statement.Act == syntax.Create {
 		return create(tables, s.Size(), statement)
 	}
@@ -42,34 +49,44 @@ func Decide(s store.Store, sql string) Outcome {
 		return refused(e)
 	}
 	if statement.Act == syntax.Insert {
-		return insert(s, table.Number, statement.Values)
+		return insert(s, table, statement.Values, trail)
 	}
-	rows := meeting(table.Columns, s.Rows(table), statement.Where)
+	seen := spanned(s, table, statement.Where, trail)
+	rows := meeting(table.Columns, seen, statement.Where)
 	switch statement.Act {
 	case syntax.Update:
 		return update(table, rows, statement.Sets)
 	case syntax.Delete:
-		return remove(table.Number, rows)
+		return remove(table, rows)
 	}
-	return Outcome{Reply: show(table.Columns, rows, statement)}
+	return outcome{reply: show(table.Columns, rows, statement)}
 }
 
-// Apply is the store as an outcome leaves it.
-func Apply(s store.Store, o Outcome) store.Store {
-	if o.Makes {
-		s = s.Make(o.Name, o.Columns)
+// spanned is the rows of a table that lie in a condition's span.
+func spanned(s store.Store, table store.Table, where []syntax.Step, trail *tree.Trail) []store.Row {
+	keys := spanOf(table.Columns, where)
+	if !keys.hasKeys() {
+		return nil
 	}
-	for i := 0; i < len(o.Puts); i++ {
-		s = s.Put(o.Table, o.Puts[i])
+	return s.Rows(table, keys.low, keys.high, trail)
+}
+
+// apply is the store as an outcome leaves it.
+func apply(s store.Store, o outcome, trail *tree.Trail) store.Store {
+	if o.makes {
+		s = s.Make(o.table, trail)
 	}
-	for i := 0; i < len(o.Cuts); i++ {
-		s = s.Cut(o.Table, o.Cuts[i])
+	for i := 0; i < len(o.puts); i++ {
+		s = s.Put(o.table.Number, o.puts[i], trail)
+	}
+	for i := 0; i < len(o.cuts); i++ {
+		s = s.Cut(o.table.Number, o.cuts[i], trail)
 	}
 	return s
 }
 
-func refused(e api.Errno) Outcome {
-	return Outcome{Reply: "!" + strconv.Itoa(int(e))}
+func refused(e api.Errno) outcome {
+	return outcome{reply: "!" + strconv.Itoa(int(e))}
 }
 
 func counted(rows int) string {
@@ -77,7 +94,7 @@ func counted(rows int) string {
 }
 
 // create is told how many rows and tables there are, all together.
-func create(tables []store.Table, size int, statement syntax.Statement) Outcome {
+func create(tables []store.Table, size int, statement syntax.Statement) outcome {
 	_, there := store.Find(tables, statement.Table)
 	if there {
 		return refused(api.ErrTwice)
@@ -91,7 +108,8 @@ func create(tables []store.Table, size int, statement syntax.Statement) Outcome 
 	if len(tables) >= api.MaxTables || size >= api.MaxRows {
 		return refused(api.ErrFull)
 	}
-	return Outcome{Reply: counted(0), Makes: true, Name: statement.Table, Columns: statement.Columns}
+	table := store.Table{Number: store.Next(tables), Name: statement.Table, Columns: statement.Columns}
+	return outcome{reply: counted(0), makes: true, table: table}
 }
 
 func twoOfOneName(columns []data.Column) bool {
@@ -103,19 +121,20 @@ func twoOfOneName(columns []data.Column) bool {
 	return false
 }
 
-func insert(s store.Store, table int, values []data.Value) Outcome {
+// insert touches the way to its place, also where it is refused there.
+func insert(s store.Store, table store.Table, values []data.Value, trail *tree.Trail) outcome {
 	row := store.Row{Cells: values}
-	if s.Has(table, row.Key()) {
+	if s.Has(table.Number, row.Key(), trail) {
 		return refused(api.ErrKey)
 	}
 	if s.Size() >= api.MaxRows {
 		return refused(api.ErrFull)
 	}
-	return Outcome{Reply: counted(1), Table: table, Puts: []store.Row{row}}
+	return outcome{reply: counted(1), table: table, puts: []store.Row{row}}
 }
 
 // update is told the rows that meet the condition.
-func update(table store.Table, rows []store.Row, sets []syntax.Set) Outcome {
+func update(table store.Table, rows []store.Row, sets []syntax.Set) outcome {
 	var puts []store.Row
 	for i := 0; i < len(rows); i++ {
 		row, ok := assigned(table.Columns, rows[i], sets)
@@ -124,7 +143,7 @@ func update(table store.Table, rows []store.Row, sets []syntax.Set) Outcome {
 		}
 		puts = append(puts, row)
 	}
-	return Outcome{Reply: counted(len(puts)), Table: table.Number, Puts: puts}
+	return outcome{reply: counted(len(puts)), table: table, puts: puts}
 }
 
 // assigned is the row as an update leaves it; false, if a number would be out of
@@ -162,10 +181,10 @@ func result(columns []data.Column, row store.Row, set syntax.Set) (data.Value, b
 }
 
 // remove is told the rows that meet the condition.
-func remove(table int, rows []store.Row) Outcome {
+func remove(table store.Table, rows []store.Row) outcome {
 	var cuts []int64
 	for i := 0; i < len(rows); i++ {
 		cuts = append(cuts, rows[i].Key())
 	}
-	return Outcome{Reply: counted(len(cuts)), Table: table, Cuts: cuts}
+	return outcome{reply: counted(len(cuts)), table: table, cuts: cuts}
 }

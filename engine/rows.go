@@ -93,13 +93,13 @@ func valueOf(columns []data.Column, row store.Row, term syntax.Term) data.Value 
 	if term.Column == "" {
 		return term.Literal
 	}
-	return cellOf(columns, row, term.Column)
+	return cellAt(row, data.Find(columns, term.Column))
 }
 
-func cellOf(columns []data.Column, row store.Row, name string) data.Value {
-	at := data.Find(columns, name)
-	if at < 0 || at >= len(row.Cells) {
+// cellAt is the value of a column, by its number.
+func cellAt(row store.Row, number int) data.Value {
+	if number < 0 || number >= len(row.Cells) {
 		return data.Value{}
 	}
-	return row.Cells[at]
+	return row.Cells[number]
 }

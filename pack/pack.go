@@ -60,6 +60,12 @@ func (r *Reader) Text() string {
 	return r.Take(int(bytes))
 }
 
+// Fail is for whoever finds that what was read cannot be: the reader is from then
+// on as if it were short.
+func (r *Reader) Fail() {
+	r.short = true
+}
+
 // Done tells whether the text was read to its end, and no further.
 func (r *Reader) Done() bool {
 	return r.rest == "" && !r.short

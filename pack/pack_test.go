@@ -52,3 +52,14 @@ func TestShort(t *testing.T) {
 		}
 	}
 }
+
+// A reader that was made to fail is as one that has run short.
+func TestFail(t *testing.T) {
+	for _, text := range []string{"", "abc"} {
+		r := Read(text)
+		r.Fail()
+		if got := r.Take(len(text)); got != "" || r.Number(1) != 0 || r.Text() != "" || r.Done() {
+			t.Errorf("behind a fail %q, done %v", got, r.Done())
+		}
+	}
+}

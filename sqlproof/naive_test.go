@@ -15,8 +15,18 @@ type knot struct {
 }
 
 type wood struct {
-	root *knot
-	wide int
+	root    *knot
+	wide    int
+	touched map[*knot]bool // since start
+}
+
+// frame is a knot as it was at the start of a statement, and all below it.
+type frame struct {
+	knot  *knot
+	kids  []*frame
+	least int64
+	count int
+	bytes string
 }
 
 func (k *knot) size() int { return len(k.kids) + len(k.places) }
@@ -61,7 +71,69 @@ func (w *wood) digest() string {
 	return string(sum[:w.wide])
 }
 
-// path is the way to a place, from the root to the leaf.
+func planted(wide int) *wood {
+	return &wood{root: &knot{}, wide: wide, touched: map[*knot]bool{}}
+}
+
+func framed(k *knot, wide int) *frame {
+	f := &frame{knot: k, count: k.count(), bytes: string(k.bytes(wide))}
+	if k.size() > 0 {
+		f.least = k.least()
+	}
+	for _, c := range k.kids {
+		f.kids = append(f.kids, framed(c, wide))
+	}
+	return f
+}
+
+// start is ahead of a statement: nothing is touched yet. A knot that is turned where
+// it stands was touched before that, so that it need not be told from a new one.
+func (w *wood) start() *frame {
+	w.touched = map[*knot]bool{}
+	return framed(w.root, w.wide)
+}
+
+// look is P12's looking through.
+func (w *wood) look(lo int64, hi int64) {
+	w.touched[w.root] = true
+	w.root.look(lo, hi, w.touched)
+}
+
+func (k *knot) look(lo int64, hi int64, touched map[*knot]bool) {
+	for i, c := range k.kids {
+		if c.least() <= hi && (i == len(k.kids)-1 || k.kids[i+1].least() > lo) {
+			touched[c] = true
+			c.look(lo, hi, touched)
+		}
+	}
+}
+
+// proof is P13's, with these knots open.
+func (f *frame) proof(open map[*knot]bool, wide int) string {
+	if !open[f.knot] {
+		sum := sha256.Sum256([]byte(f.bytes))
+		return "\x00" + string(sum[:wide])
+	}
+	if len(f.kids) == 0 {
+		return f.bytes
+	}
+	out := f.bytes[:2]
+	for _, c := range f.kids {
+		out += string(five(c.least)) + string([]byte{byte(c.count)}) + c.proof(open, wide)
+	}
+	return out
+}
+
+// all are the knots of the tree.
+func (f *frame) all() []*knot {
+	list := []*knot{f.knot}
+	for _, c := range f.kids {
+		list = append(list, c.all()...)
+	}
+	return list
+}
+
+// path is the way to a place, from the root to the leaf; it is touched.
 func (w *wood) path(place int64) []*knot {
 	path := []*knot{w.root}
 	for k := w.root; len(k.kids) > 0; {
@@ -73,6 +145,9 @@ func (w *wood) path(place int64) []*knot {
 		}
 		k = next
 		path = append(path, k)
+	}
+	for _, k := range path {
+		w.touched[k] = true
 	}
 	return path
 }
@@ -144,6 +219,7 @@ func (w *wood) cut(place int64) {
 			left--
 		}
 		a, b := up.kids[left], up.kids[left+1]
+		w.touched[a], w.touched[b] = true, true
 		a.kids, a.places, a.rows = append(a.kids, b.kids...), append(a.places, b.places...), append(a.rows, b.rows...)
 		up.kids = removed(up.kids, left+1)
 		if a.size() == 5 {
@@ -154,6 +230,9 @@ func (w *wood) cut(place int64) {
 		w.root = w.root.kids[0]
 	}
 }
+
+// tables0 are the places of table 0.
+const tables0 = 1<<32 - 1
 
 // at is the place of a key in the table of a number.
 func at(table int, key int) int64 { return int64(table)<<32 + int64(key) + 1<<31 }

@@ -135,7 +135,7 @@ func TestP2Roots(t *testing.T) {
 func TestP11Widths(t *testing.T) {
 	for wide := 1; wide <= 32; wide++ {
 		s, _ := sqlproof.New(wide)
-		w := &wood{&knot{}, wide}
+		w := planted(wide)
 		s.Run("create table t (id int)")
 		w.put(at(0, 1), "\x01t\x01\x00\x02id")
 		for i := 0; i < 50; i++ {
@@ -155,12 +155,14 @@ func roam(t *testing.T, seed int64) {
 	r := rand.New(rand.NewSource(seed))
 	wide := 1 + r.Intn(32)
 	s, _ := sqlproof.New(wide)
-	w := &wood{&knot{}, wide}
+	w := planted(wide)
 	rows := [6]map[int]string{}
 	there, made := 0, 0
 	for i := 0; i < 400; i++ {
 		table, key, text := 1+r.Intn(5), r.Intn(80)-40, fmt.Sprint("v", i)
 		name := string(rune('a' + table))
+		root, old := s.Root(), w.start()
+		w.look(0, tables0)
 		var sql, want string
 		switch {
 		case made < 5 && r.Intn(20) == 0 && there < api.MaxRows:
@@ -173,6 +175,7 @@ func roam(t *testing.T, seed int64) {
 			sql, want = "delete from "+name, "!4"
 		case r.Intn(12) > 0 && i%200 < 140:
 			sql, want = fmt.Sprintf("insert into %s values (%d, '%s')", name, key, text), "1;"
+			w.path(at(table, key))
 			if _, old := rows[table][key]; old {
 				want = "!8"
 			} else if there == api.MaxRows {
@@ -185,6 +188,7 @@ func roam(t *testing.T, seed int64) {
 		default:
 			updates, count := r.Intn(3) == 0, 0
 			reach := r.Intn(8)
+			w.look(at(table, key), at(table, key+reach))
 			for k := key; k <= key+reach; k++ {
 				if _, old := rows[table][k]; !old {
 					continue
@@ -209,11 +213,17 @@ func roam(t *testing.T, seed int64) {
 		if ran.Reply != want || ran.Root != w.digest() || peeked != ran || s.Root() != ran.Root {
 			t.Fatalf("P10: seed %d: Run(%q) = %q, %x, want %q, %x", seed, sql, ran.Reply, ran.Root, want, w.digest())
 		}
+		if proof := old.proof(w.touched, wide); ran.Proof != proof {
+			t.Fatalf("P13: seed %d: the proof of %q is %x, want %x", seed, sql, ran.Proof, proof)
+		}
+		if next, ok := sqlproof.Check(wide, root, sql, ran.Reply, ran.Proof); !ok || next != ran.Root {
+			t.Fatalf("P15: seed %d: Check of %q = %x, %v, want %x", seed, sql, next, ok, ran.Root)
+		}
 	}
 }
 
 func TestP10AgainstNaiveTree(t *testing.T) {
-	for seed := int64(0); seed < 60; seed++ {
+	for seed := int64(0); seed < 30; seed++ {
 		roam(t, seed)
 	}
 }

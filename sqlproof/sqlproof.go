@@ -3,19 +3,21 @@ package sqlproof
 
 import (
 	"sqlproof/api"
+	"sqlproof/digest"
 	"sqlproof/engine"
-	"sqlproof/store"
+	"sqlproof/proofs"
+	"sqlproof/tree"
 )
 
-// Server is a store, and the width of its digests.
+// Server is the tree of all rows, and the width of its digests.
 type Server struct {
 	wide int
-	base store.Store
+	root tree.Node
 }
 
 // New makes a server whose digests have so many bytes (P3).
 func New(wide int) (*Server, api.Errno) {
-	if wide < 1 || wide > api.MaxWide {
+	if !digest.IsWidth(wide) {
 		return nil, api.ErrWide
 	}
 	return &Server{wide: wide}, api.OK
@@ -26,8 +28,8 @@ func (s *Server) Run(sql string) api.Answer {
 	if s == nil {
 		return api.Answer{}
 	}
-	answer, base := answered(s.wide, s.base, sql)
-	s.base = base
+	answer, next := answered(s.wide, s.root, sql)
+	s.root = next
 	return answer
 }
 
@@ -36,15 +38,17 @@ func (s *Server) Peek(sql string) api.Answer {
 	if s == nil {
 		return api.Answer{}
 	}
-	answer, _ := answered(s.wide, s.base, sql)
+	answer, _ := answered(s.wide, s.root, sql)
 	return answer
 }
 
-// answered is the answer to a statement, and the store as it leaves it.
-func answered(wide int, base store.Store, sql string) (api.Answer, store.Store) {
-	outcome := engine.Decide(base, sql)
-	next := engine.Apply(base, outcome)
-	return api.Answer{Reply: outcome.Reply, Root: next.Root(wide)}, next
+// answered is the answer to a statement, and the tree as it leaves it.
+func answered(wide int, root tree.Node, sql string) (api.Answer, tree.Node) {
+	old := root.Numbered()
+	var trail tree.Trail
+	reply, next := engine.Run(old, sql, &trail)
+	proof := proofs.Write(old, &trail, wide)
+	return api.Answer{Reply: reply, Proof: proof, Root: next.Digest(wide)}, next
 }
 
 // Root tells the root's digest (P11).
@@ -52,7 +56,7 @@ func (s *Server) Root() string {
 	if s == nil {
 		return ""
 	}
-	return s.base.Root(s.wide)
+	return s.root.Digest(s.wide)
 }
 
 // Clash compares the tree with a proof (P16).
@@ -60,5 +64,14 @@ func (s *Server) Clash(proof string) (string, string, bool) { return "", "", fal
 
 // Check is what a client does (P15).
 func Check(wide int, root string, sql string, reply string, proof string) (string, bool) {
-	return "", false
+	told, ok := proofs.Read(proof, wide)
+	if !ok || told.Digest(wide) != root {
+		return "", false
+	}
+	var trail tree.Trail
+	answer, next := engine.Run(told, sql, &trail)
+	if trail.Lost || answer != reply {
+		return "", false
+	}
+	return next.Digest(wide), true
 }

@@ -20,10 +20,12 @@ type Table struct {
 	Columns []data.Column
 }
 
-// Store is all tables and their rows. No call turns it: what makes, puts or cuts
-// answers another one. The empty Store has no tables.
+// Store is a tree, seen as tables and their rows. No call turns it: what makes,
+// puts or cuts answers another one. The empty Store has no tables. Every call is
+// told a trail, on which it notes what it touches of the tree, and that it found
+// a row that cannot be read; in a tree that was made here there is no such row.
 type Store struct {
-	root tree.Node
+	Tree tree.Node
 }
 
 // tables is the number of the table whose rows describe the others.
@@ -54,74 +56,72 @@ func Find(list []Table, name string) (Table, bool) {
 	return Table{}, false
 }
 
-// entries are all rows of a table, as they lie in the tree.
-func (s Store) entries(table int) []tree.Entry {
-	return s.root.Between(record.Place(table, api.Low), record.Place(table, api.High))
-}
-
-// Tables is all tables, in the order of their numbers. Only tables that were
-// made here are in the tree, so every description can be read.
-func (s Store) Tables() []Table {
-	entries := s.entries(tables)
-	var list []Table
-	for i := 0; i < len(entries); i++ {
-		name, columns, ok := record.ToTable(entries[i].Row)
-		if ok {
-			key := record.Key(entries[i].Place)
-			list = append(list, Table{Number: int(key), Name: name, Columns: columns})
-		}
-	}
-	return list
-}
-
-// Rows is all rows of a table, in the order of their keys.
-func (s Store) Rows(table Table) []Row {
-	entries := s.entries(table.Number)
-	var rows []Row
-	for i := 0; i < len(entries); i++ {
-		cells, ok := record.ToCells(table.Columns, record.Key(entries[i].Place), entries[i].Row)
-		if ok {
-			rows = append(rows, Row{Cells: cells})
-		}
-	}
-	return rows
-}
-
-// Has tells whether a table, by its number, has a row of that key.
-func (s Store) Has(table int, key int64) bool {
-	return s.root.Has(record.Place(table, key))
-}
-
-// Size is how many rows and tables there are, all together.
-func (s Store) Size() int {
-	return s.root.Rows
-}
-
-// Root is the digest of the tree's root, of so many bytes.
-func (s Store) Root(wide int) string {
-	return s.root.Digest(wide)
-}
-
-// Make is the store with a new table, without rows.
-func (s Store) Make(name string, columns []data.Column) Store {
-	list := s.Tables()
+// Next is the number for a new table beside those of a list.
+func Next(list []Table) int {
 	last := 0
 	for i := 0; i < len(list); i++ {
 		if list[i].Number > last {
 			last = list[i].Number
 		}
 	}
-	place := record.Place(tables, int64(last)+1)
-	return Store{root: s.root.Put(place, record.OfTable(name, columns))}
+	return last + 1
+}
+
+// Tables is all tables, in the order of their numbers.
+func (s Store) Tables(trail *tree.Trail) []Table {
+	entries := s.Tree.Through(record.Place(tables, api.Low), record.Place(tables, api.High), trail)
+	var list []Table
+	for i := 0; i < len(entries); i++ {
+		key := record.Key(entries[i].Place)
+		name, columns, ok := record.ToTable(entries[i].Row)
+		if !ok || key < 1 || key > api.MaxTables {
+			trail.Lost = true
+			continue
+		}
+		list = append(list, Table{Number: int(key), Name: name, Columns: columns})
+	}
+	return list
+}
+
+// Rows is the rows of a table from the key low to the key high, in the order of
+// their keys.
+func (s Store) Rows(table Table, low int64, high int64, trail *tree.Trail) []Row {
+	entries := s.Tree.Through(record.Place(table.Number, low), record.Place(table.Number, high), trail)
+	var rows []Row
+	for i := 0; i < len(entries); i++ {
+		cells, ok := record.ToCells(table.Columns, record.Key(entries[i].Place), entries[i].Row)
+		if !ok {
+			trail.Lost = true
+			continue
+		}
+		rows = append(rows, Row{Cells: cells})
+	}
+	return rows
+}
+
+// Has tells whether a table, by its number, has a row of that key.
+func (s Store) Has(table int, key int64, trail *tree.Trail) bool {
+	return s.Tree.Has(record.Place(table, key), trail)
+}
+
+// Size is how many rows and tables there are, all together.
+func (s Store) Size() int {
+	return s.Tree.Rows
+}
+
+// Make is the store with a new table, of that number and without rows.
+func (s Store) Make(table Table, trail *tree.Trail) Store {
+	place := record.Place(tables, int64(table.Number))
+	return Store{Tree: s.Tree.Put(place, record.OfTable(table.Name, table.Columns), trail)}
 }
 
 // Put is the store with a row laid into a table, instead of one of the same key.
-func (s Store) Put(table int, row Row) Store {
+func (s Store) Put(table int, row Row, trail *tree.Trail) Store {
 	place := record.Place(table, row.Key())
-	return Store{root: s.root.Put(place, record.OfCells(row.Cells))}
+	return Store{Tree: s.Tree.Put(place, record.OfCells(row.Cells), trail)}
 }
 
 // Cut is the store without the row of a key of a table.
-func (s Store) Cut(table int, key int64) Store {
-	return Store{root: s.root.Delete(record.Place(table, key))}
+func (s Store) Cut(table int, key int64, trail *tree.Trail) Store {
+	return Store{Tree: s.Tree.Delete(record.Place(table, key), trail)}
 }

@@ -1,6 +1,7 @@
-// Package tree is the one tree in which all rows lie (P10), and its bytes and
-// digests (P11). No call turns a node: what puts or deletes answers another root,
-// so that whoever holds the old one still has the old tree.
+// Package tree is the one tree in which all rows lie (P10), its bytes and digests
+// (P11), and the trail of what is touched of it (P12). No call turns a node: what
+// puts or deletes answers another root, so that whoever holds the old one still
+// has the old tree.
 package tree
 
 import "sqlproof/api"
@@ -11,20 +12,24 @@ type Entry struct {
 	Row   string
 }
 
-// Node is a leaf or an inner node, with all below it. The empty Node is the tree
-// as it is at first.
+// Node is a leaf or an inner node, with all below it; or it is shut, and no more is
+// known of it than its digest and what the node above it says. The empty Node is
+// the tree as it is at first.
 type Node struct {
 	Inner    bool
 	Entries  []Entry // of a leaf
 	Children []Node  // of an inner node
 	Least    int64   // the least place in it; of a leaf without entries 0
 	Rows     int     // how many rows are in it
+	Seal     string  // the digest of a node that is shut; of others empty
+	Number   int     // tells a node of a numbered tree; 0, if it was put together later
 }
 
 // three of five go to the left, where a node becomes two.
 const three = api.Full + 1 - api.Half
 
-func leaf(entries []Entry) Node {
+// Leaf is a leaf of such entries.
+func Leaf(entries []Entry) Node {
 	own := make([]Entry, len(entries))
 	copy(own, entries)
 	n := Node{Entries: own, Rows: len(own)}
@@ -34,7 +39,8 @@ func leaf(entries []Entry) Node {
 	return n
 }
 
-func inner(children []Node) Node {
+// Inner is an inner node of such children.
+func Inner(children []Node) Node {
 	own := make([]Node, len(children))
 	copy(own, children)
 	n := Node{Inner: true, Children: own}
@@ -47,24 +53,34 @@ func inner(children []Node) Node {
 	return n
 }
 
+// Shut is a node of which the digest is known, and what the node above it says.
+func Shut(seal string, least int64, rows int) Node {
+	return Node{Seal: seal, Least: least, Rows: rows}
+}
+
+// IsShut tells whether all that is in the node is hidden.
+func (n Node) IsShut() bool {
+	return n.Seal != ""
+}
+
 // leaves are the one leaf, or the two, that entries make.
 func leaves(entries []Entry) []Node {
 	if len(entries) <= api.Full {
-		return []Node{leaf(entries)}
+		return []Node{Leaf(entries)}
 	}
-	return []Node{leaf(entries[:three]), leaf(entries[three:])}
+	return []Node{Leaf(entries[:three]), Leaf(entries[three:])}
 }
 
 // inners are the one inner node, or the two, that children make.
 func inners(children []Node) []Node {
 	if len(children) <= api.Full {
-		return []Node{inner(children)}
+		return []Node{Inner(children)}
 	}
-	return []Node{inner(children[:three]), inner(children[three:])}
+	return []Node{Inner(children[:three]), Inner(children[three:])}
 }
 
-// size is how many entries, or children, a node has.
-func (n Node) size() int {
+// Size is how many entries, or children, a node has.
+func (n Node) Size() int {
 	if n.Inner {
 		return len(n.Children)
 	}
@@ -82,11 +98,12 @@ func (n Node) way(place int64) int {
 	return at
 }
 
-// Has tells whether a row lies at a place.
-func (n Node) Has(place int64) bool {
+// Has tells whether a row lies at a place; the way to it is touched.
+func (n Node) Has(place int64, trail *Trail) bool {
+	trail.touch(n)
 	if n.Inner {
 		at := n.way(place)
-		return at < len(n.Children) && n.Children[at].Has(place)
+		return at < len(n.Children) && n.Children[at].Has(place, trail)
 	}
 	for i := 0; i < len(n.Entries); i++ {
 		if n.Entries[i].Place == place {
@@ -96,8 +113,10 @@ func (n Node) Has(place int64) bool {
 	return false
 }
 
-// Between is the entries from the place lo to the place hi, in their order.
-func (n Node) Between(lo int64, hi int64) []Entry {
+// Through is the entries from the place lo to the place hi, in their order; what
+// is looked through for them is touched.
+func (n Node) Through(lo int64, hi int64, trail *Trail) []Entry {
+	trail.touch(n)
 	var found []Entry
 	for i := 0; i < len(n.Entries); i++ {
 		if lo <= n.Entries[i].Place && n.Entries[i].Place <= hi {
@@ -106,7 +125,8 @@ func (n Node) Between(lo int64, hi int64) []Entry {
 	}
 	for i := 0; i < len(n.Children); i++ {
 		if n.mayHave(i, lo, hi) {
-			found = append(found, n.Children[i].Between(lo, hi)...)
+			below := n.Children[i].Through(lo, hi, trail)
+			found = append(found, below...)
 		}
 	}
 	return found

@@ -50,9 +50,9 @@ func grow(text string) (Node, string) {
 		text = strings.TrimPrefix(text[len(word):], " ")
 	}
 	if children != nil {
-		return inner(children), text[1:]
+		return Inner(children), text[1:]
 	}
-	return leaf(entries), text[1:]
+	return Leaf(entries), text[1:]
 }
 
 func TestPut(t *testing.T) {
@@ -82,7 +82,7 @@ func TestPut(t *testing.T) {
 		{"(((1 2)(3 4))((5 6)(7 8)(9 10)(11 12 13 14)))", 15, "(((1 2)(3 4))((5 6)(7 8)(9 10))((11 12 13)(14 15)))"},
 	} {
 		before := grown(c.before)
-		got := before.Put(c.place, strconv.FormatInt(c.place, 10))
+		got := before.Put(c.place, strconv.FormatInt(c.place, 10), new(Trail))
 		if shape(got) != c.want || !reflect.DeepEqual(got, grown(c.want)) {
 			t.Errorf("P10: %s with %d is %s, want %s", c.before, c.place, shape(got), c.want)
 		}
@@ -96,10 +96,10 @@ func TestPut(t *testing.T) {
 func TestPutInstead(t *testing.T) {
 	n := grown("((1 2)(3 4 5)(6 7))")
 	for _, place := range []int64{1, 3, 4, 7} {
-		n = n.Put(place, "new")
+		n = n.Put(place, "new", new(Trail))
 	}
 	got := ""
-	for _, e := range n.Between(0, 9) {
+	for _, e := range n.Through(0, 9, new(Trail)) {
 		got += " " + e.Row
 	}
 	if want := " new 2 new new 5 6 new"; got != want || shape(n) != "((1 2)(3 4 5)(6 7))" {
@@ -145,7 +145,7 @@ func TestDelete(t *testing.T) {
 		{"(((1 2)(3 4)(5 6))((7 8)(9 10)))", 3, "(((1 2)(4 5 6))((7 8)(9 10)))"},
 	} {
 		before := grown(c.before)
-		if got := before.Delete(c.place); shape(got) != c.want || !reflect.DeepEqual(got, grown(c.want)) {
+		if got := before.Delete(c.place, new(Trail)); shape(got) != c.want || !reflect.DeepEqual(got, grown(c.want)) {
 			t.Errorf("P10: %s without %d is %s, want %s", c.before, c.place, shape(got), c.want)
 		}
 		if !reflect.DeepEqual(before, grown(c.before)) {
@@ -154,12 +154,12 @@ func TestDelete(t *testing.T) {
 	}
 }
 
-func TestBetween(t *testing.T) {
+func TestThrough(t *testing.T) {
 	n := grown("(((10 20)(30 40 50))((60 70)(80 90)(100 110 120)))")
 	for lo := int64(0); lo <= 130; lo += 5 {
 		for hi := int64(0); hi <= 130; hi += 5 {
 			got, want := "", ""
-			for _, e := range n.Between(lo, hi) {
+			for _, e := range n.Through(lo, hi, new(Trail)) {
 				got += fmt.Sprint(" ", e.Place, "=", e.Row)
 			}
 			for p := int64(10); p <= 120; p += 10 {
@@ -171,8 +171,16 @@ func TestBetween(t *testing.T) {
 				t.Errorf("from %d to %d:%s, want%s", lo, hi, got, want)
 			}
 		}
-		if n.Has(lo) != (lo%10 == 0 && lo >= 10 && lo <= 120) {
-			t.Errorf("Has(%d) = %v", lo, n.Has(lo))
+		if got := n.Has(lo, new(Trail)); got != (lo%10 == 0 && lo >= 10 && lo <= 120) {
+			t.Errorf("Has(%d) = %v", lo, got)
+		}
+	}
+}
+
+func TestLeast(t *testing.T) {
+	for text, want := range map[string]int64{"()": 0, "(7)": 7, "(7 8)": 7, "((7 8)(9 10))": 7, "((7))": 7} {
+		if n := grown(text); n.Least != want {
+			t.Errorf("P10: the least place of %s is %d", text, n.Least)
 		}
 	}
 }
@@ -204,7 +212,7 @@ func sound(n Node, root bool) (string, int) {
 
 func listed(n Node) []int {
 	var out []int
-	for _, e := range n.Between(0, 1<<40) {
+	for _, e := range n.Through(0, 1<<40, new(Trail)) {
 		out = append(out, int(e.Place))
 	}
 	return out
@@ -219,10 +227,10 @@ func TestSound(t *testing.T) {
 		for i := 0; i < 300; i++ {
 			place := r.Intn(90)
 			if r.Intn(200) < i {
-				n = n.Delete(int64(place))
+				n = n.Delete(int64(place), new(Trail))
 				delete(there, place)
 			} else {
-				n = n.Put(int64(place), "x")
+				n = n.Put(int64(place), "x", new(Trail))
 				there[place] = true
 			}
 			var want []int
@@ -250,7 +258,7 @@ func TestBytes(t *testing.T) {
 		return string(d[:])
 	}
 	left, right := unhex("01 02 00800000010161 ffffffffff00"), unhex("01 02 010000000002626300000000ff0164")
-	n := inner([]Node{leaf([]Entry{{0x0080000001, "a"}, {0xffffffffff, ""}}), leaf([]Entry{{0x0100000000, "bc"}, {0xff, "d"}})})
+	n := Inner([]Node{Leaf([]Entry{{0x0080000001, "a"}, {0xffffffffff, ""}}), Leaf([]Entry{{0x0100000000, "bc"}, {0xff, "d"}})})
 	if n.Children[0].Bytes(1) != left || n.Children[1].Bytes(7) != right || (Node{}).Bytes(3) != "\x01\x00" {
 		t.Errorf("P11: leaves %x, %x, %x", n.Children[0].Bytes(1), n.Children[1].Bytes(7), Node{}.Bytes(3))
 	}
@@ -260,21 +268,26 @@ func TestBytes(t *testing.T) {
 			t.Errorf("P11: width %d: %x, want %x", wide, got, want)
 		}
 	}
-	over := inner([]Node{{Least: 1, Rows: 300}})
-	if got, want := over.Bytes(0), unhex("02 01 0000000001 2c"); got != want {
-		t.Errorf("a count above 255: %x, want %x", got, want)
+	over := Inner([]Node{Shut("seal", 1, 300), Shut("lock", 2, 255)})
+	if got, want := over.Bytes(4), unhex("02 02 0000000001 2c")+"seal"+unhex("0000000002 ff")+"lock"; got != want || over.Rows != 555 {
+		t.Errorf("P15: a count above 255: %x, want %x; %d rows", got, want, over.Rows)
+	}
+	if got := over.Children[0].Digest(4); got != "seal" {
+		t.Errorf("P13: the digest of a shut node is %q", got)
 	}
 }
 
 // P1: nodes that no tree has end all the same.
 func TestOddNodes(t *testing.T) {
-	empty := inner(nil)
-	one := inner([]Node{empty})
-	for _, n := range []Node{empty, one, inner([]Node{leaf(nil)}), inner([]Node{empty, leaf(nil)})} {
-		n.Put(1, "x").Put(2, "y").Delete(1)
-		n.Delete(1).Delete(2)
-		n.Has(1)
-		n.Between(0, 9)
-		n.Digest(4)
+	empty, shut := Inner(nil), Shut("seal", 0, 9)
+	one := Inner([]Node{empty})
+	for _, n := range []Node{empty, one, Inner([]Node{Leaf(nil)}), Inner([]Node{empty, Leaf(nil)}), shut, Inner([]Node{shut}), Inner([]Node{shut, Inner([]Node{shut, shut})})} {
+		var trail Trail
+		n.Put(1, "x", &trail).Put(2, "y", &trail).Delete(1, &trail)
+		n.Delete(1, &trail).Delete(2, &trail)
+		n.Has(1, &trail)
+		n.Through(0, 9, &trail)
+		n.Numbered().Digest(4)
+		n.Written(nil)
 	}
 }

@@ -2,17 +2,19 @@ package tree
 
 import "sqlproof/api"
 
-// Put is the tree of a root with a row laid at a place, instead of one there.
-func (n Node) Put(place int64, row string) Node {
-	parts := n.put(Entry{Place: place, Row: row})
+// Put is the tree of a root with a row laid at a place, instead of one there; the
+// way to it is touched.
+func (n Node) Put(place int64, row string, trail *Trail) Node {
+	parts := n.put(Entry{Place: place, Row: row}, trail)
 	if len(parts) == 1 {
 		return parts[0]
 	}
-	return inner(parts)
+	return Inner(parts)
 }
 
 // put is the one node, or the two, that a node becomes.
-func (n Node) put(entry Entry) []Node {
+func (n Node) put(entry Entry, trail *Trail) []Node {
+	trail.touch(n)
 	if !n.Inner {
 		return leaves(with(n.Entries, entry))
 	}
@@ -20,7 +22,7 @@ func (n Node) put(entry Entry) []Node {
 	if at >= len(n.Children) {
 		return leaves([]Entry{entry})
 	}
-	parts := n.Children[at].put(entry)
+	parts := n.Children[at].put(entry, trail)
 	return inners(exchanged(n.Children, at, 1, parts))
 }
 
@@ -54,9 +56,10 @@ func exchanged(children []Node, at int, many int, others []Node) []Node {
 	return all
 }
 
-// Delete is the tree of a root without the row at a place.
-func (n Node) Delete(place int64) Node {
-	root := n.without(place)
+// Delete is the tree of a root without the row at a place; the way to it is
+// touched, and so are the neighbours that are joined.
+func (n Node) Delete(place int64, trail *Trail) Node {
+	root := n.without(place, trail)
 	if root.Inner && len(root.Children) == 1 {
 		return root.Children[0]
 	}
@@ -64,20 +67,21 @@ func (n Node) Delete(place int64) Node {
 }
 
 // without may leave a node too small: it is the node above that joins it.
-func (n Node) without(place int64) Node {
+func (n Node) without(place int64, trail *Trail) Node {
+	trail.touch(n)
 	if !n.Inner {
-		return leaf(dropped(n.Entries, place))
+		return Leaf(dropped(n.Entries, place))
 	}
 	at := n.way(place)
 	if at >= len(n.Children) {
 		return n
 	}
-	child := n.Children[at].without(place)
+	child := n.Children[at].without(place, trail)
 	children := exchanged(n.Children, at, 1, []Node{child})
-	if child.size() < api.Half {
-		children = joined(children, at)
+	if child.Size() < api.Half {
+		children = joined(children, at, trail)
 	}
-	return inner(children)
+	return Inner(children)
 }
 
 func dropped(entries []Entry, place int64) []Entry {
@@ -91,14 +95,17 @@ func dropped(entries []Entry, place int64) []Entry {
 }
 
 // joined is the children, one of them put together with its neighbour to the
-// right, or, if it is the last, to the left.
-func joined(children []Node, at int) []Node {
+// right, or, if it is the last, to the left. Both are noted as touched: the one
+// that is too small is no longer a node of the old tree, so that it does not count.
+func joined(children []Node, at int, trail *Trail) []Node {
 	if at == len(children)-1 {
 		at--
 	}
 	if at < 0 || at+1 >= len(children) {
 		return children
 	}
+	trail.touch(children[at])
+	trail.touch(children[at+1])
 	return exchanged(children, at, 2, together(children[at], children[at+1]))
 }
 
