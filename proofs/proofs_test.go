@@ -252,3 +252,37 @@ func touchOpen(n tree.Node, trail *tree.Trail) {
 		touchOpen(c, trail)
 	}
 }
+
+// P16: shut nodes tell nothing; of the others the first whose bytes differ is found.
+func TestClash(t *testing.T) {
+	told := func(text string) tree.Node {
+		n, ok := Read(text, 4)
+		if !ok {
+			t.Fatalf("P14: %x is no proof", text)
+		}
+		return n
+	}
+	own := told(inner(open(1, 2), open(3, 4)))
+	first, second := own.Children[0].Digest(4), own.Children[1].Digest(4)
+	for _, c := range []struct {
+		what, text string
+		want       bool
+	}{
+		{"the tree", inner(open(1, 2), open(3, 4)), false},
+		{"a shut root", shut("seal"), false},
+		{"shut children", inner(child(1, 2, shut(first)), child(3, 2, shut(second))), false},
+		{"one of them open", inner(child(1, 2, shut(first)), open(3, 4)), false},
+		{"another seal", inner(child(1, 2, shut(first)), child(3, 2, shut(first))), true},
+		{"another place", inner(child(1, 2, shut(first)), child(4, 2, shut(second))), true},
+		{"another count", inner(child(1, 2, shut(first)), child(3, 3, shut(second))), true},
+		{"another leaf", inner(open(1, 2), open(3, 5)), true},
+		{"one child more", inner(open(1, 2), open(3, 4), open(5, 6)), true},
+		{"a leaf", leaf(1, 2, 3, 4), true},
+		{"an empty leaf", leaf(), true},
+	} {
+		x, y, ok := Clash(own, told(c.text), 4)
+		if ok != c.want || ok && (x != own.Bytes(4) || y != told(c.text).Bytes(4)) || !ok && x+y != "" {
+			t.Errorf("P16: Clash with %s = %x, %x, %v", c.what, x, y, ok)
+		}
+	}
+}

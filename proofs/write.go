@@ -1,4 +1,5 @@
-// Package proofs writes proofs (P13) and reads them (P14).
+// Package proofs writes proofs (P13), reads them (P14), and compares them with the
+// tree (P16).
 package proofs
 
 import (

@@ -63,12 +63,19 @@ func (b *bud) text(below func(*bud) string) string {
 	return out
 }
 
-func (b *bud) digest() string {
+func (b *bud) digest() string { return b.brief(oddWide) }
+
+// brief is the digest, of any width.
+func (b *bud) brief(wide int) string {
 	if b.seal != "" {
 		return b.seal
 	}
-	sum := sha256.Sum256([]byte(b.text((*bud).digest)))
-	return string(sum[:oddWide])
+	sum := sha256.Sum256([]byte(b.bytes(wide)))
+	return string(sum[:wide])
+}
+
+func (b *bud) bytes(wide int) string {
+	return b.text(func(k *bud) string { return k.brief(wide) })
 }
 
 func (b *bud) proof() string {

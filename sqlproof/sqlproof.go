@@ -60,7 +60,17 @@ func (s *Server) Root() string {
 }
 
 // Clash compares the tree with a proof (P16).
-func (s *Server) Clash(proof string) (string, string, bool) { return "", "", false }
+func (s *Server) Clash(proof string) (string, string, bool) {
+	if s == nil {
+		return "", "", false
+	}
+	told, ok := proofs.Read(proof, s.wide)
+	root := s.Root()
+	if !ok || told.Digest(s.wide) != root {
+		return "", "", false
+	}
+	return proofs.Clash(s.root, told, s.wide)
+}
 
 // Check is what a client does (P15).
 func Check(wide int, root string, sql string, reply string, proof string) (string, bool) {

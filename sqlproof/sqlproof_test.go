@@ -136,9 +136,15 @@ func TestP1NoServer(t *testing.T) {
 	if none.Root() != "" {
 		t.Error("P1: no server has a root")
 	}
-	none.Clash("")
 	var empty sqlproof.Server
 	empty.Root()
+	for _, s := range []*sqlproof.Server{none, &empty} {
+		for _, proof := range []string{"", "\x00", "\x01\x00", "\x01\x01\x00\x00\x00\x00\x00\x00"} {
+			if x, y, ok := s.Clash(proof); ok || x != "" || y != "" {
+				t.Errorf("P1: no server's Clash(%q) = %q, %q, %v", proof, x, y, ok)
+			}
+		}
+	}
 	if a := empty.Run("select * from t"); a.Reply != "!4" {
 		t.Errorf("P1: an empty server answers %v", a)
 	}
